@@ -1,0 +1,1 @@
+"""Tables with gaps, and what holds however they are filled."""

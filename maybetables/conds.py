@@ -1,0 +1,154 @@
+"""Conditions on gaps: where they hold, what stands in them, and cells put into them."""
+
+from maybetables.errors import NoFilling
+
+
+def cell_value(cell, filling):
+    """What a cell comes to at a filling that has it, if it is a gap."""
+    if isinstance(cell, str):
+        return filling[cell]
+    return cell
+
+
+def gaps_among(cells):
+    """The gaps out of some cells."""
+    return [cell for cell in cells if isinstance(cell, str)]
+
+
+def values_among(cells):
+    """The values out of some cells."""
+    return [cell for cell in cells if not isinstance(cell, str)]
+
+
+def cells_within(parts):
+    """All gaps and values that stand in some conditions, perhaps more than once."""
+    cells = []
+    for part in parts:
+        cells.extend(part.kept_gaps)
+        cells.extend(part.kept_values)
+    return cells
+
+
+class Cond:
+    """Any condition. Its fields never change, so what is often asked of it is kept from the start.
+
+    Each sort has two methods of its own: worked(filling), whether it holds at a filling that has all
+    its gaps, and, if a gap can stand in it, replaced(cells), the condition with these cells put in.
+    """
+
+    def __init__(self, cells, atoms):
+        """Called by each sort with all cells that stand in it, when its own fields are set."""
+        self.kept_gaps = tuple(sorted(set(gaps_among(cells))))
+        self.kept_values = tuple(sorted(set(values_among(cells))))
+        self.kept_atoms = atoms
+        # Without gaps it is the same at every filling. Were it worked out each time, a Truth that stands
+        # twice in a part that stands twice in another, and so on, would be come to a million times.
+        self.settled = None
+        if not self.kept_gaps:
+            self.settled = self.worked({})
+
+    def truth(self, filling):
+        """Whether it holds at a filling; NoFilling where that lacks a gap, whether or not it matters."""
+        for gap in self.kept_gaps:
+            if gap not in filling:
+                raise NoFilling(gap)
+        return self.holds(filling)
+
+    def holds(self, filling):
+        """As truth, at a filling that is known to have all gaps."""
+        if self.settled is not None:
+            return self.settled
+        return self.worked(filling)
+
+    def gaps(self):
+        """The gaps that stand in it, sorted, each once."""
+        return list(self.kept_gaps)
+
+    def standing(self):
+        """The values that stand in it, rising, each once."""
+        return list(self.kept_values)
+
+    def atoms(self):
+        """How many Sames stand in it, each as often as it stands there."""
+        return self.kept_atoms
+
+    def put(self, cells):
+        """The condition with the cells that a dict gives in the place of gaps, all at once."""
+        for gap in self.kept_gaps:
+            if gap in cells:
+                return self.replaced(cells)
+        return self
+
+
+class Truth(Cond):
+    """Holds always, or never."""
+
+    def __init__(self, said):
+        self.said = said
+        Cond.__init__(self, [], 0)
+
+    def worked(self, filling):
+        return self.said
+
+
+class Same(Cond):
+    """Holds where both cells come to one value."""
+
+    def __init__(self, one, other):
+        self.one = one
+        self.other = other
+        Cond.__init__(self, [one, other], 1)
+
+    def worked(self, filling):
+        return cell_value(self.one, filling) == cell_value(self.other, filling)
+
+    def replaced(self, cells):
+        return Same(cells.get(self.one, self.one), cells.get(self.other, self.other))
+
+
+class AllOf(Cond):
+    """Holds where each of its parts does; of none, always."""
+
+    def __init__(self, parts):
+        self.parts = tuple(parts)
+        Cond.__init__(self, cells_within(self.parts), sum([part.kept_atoms for part in self.parts]))
+
+    def worked(self, filling):
+        for part in self.parts:
+            if not part.holds(filling):
+                return False
+        return True
+
+    def replaced(self, cells):
+        return AllOf([part.put(cells) for part in self.parts])
+
+
+class OneOf(Cond):
+    """Holds where one of its parts or more does; of none, never."""
+
+    def __init__(self, parts):
+        self.parts = tuple(parts)
+        Cond.__init__(self, cells_within(self.parts), sum([part.kept_atoms for part in self.parts]))
+
+    def worked(self, filling):
+        for part in self.parts:
+            if part.holds(filling):
+                return True
+        return False
+
+    def replaced(self, cells):
+        return OneOf([part.put(cells) for part in self.parts])
+
+
+class Opposite(Cond):
+    """Holds where its part does not."""
+
+    def __init__(self, part):
+        self.part = part
+        Cond.__init__(self, cells_within([part]), part.kept_atoms)
+
+    def worked(self, filling):
+        return not self.part.holds(filling)
+
+    def replaced(self, cells):
+        return Opposite(self.part.put(cells))
