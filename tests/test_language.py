@@ -1,4 +1,7 @@
-"""The form of the package's files, as far as it can be seen without running them: the rules L1 to L28."""
+"""The form of the package's files: what is easily seen of L1 to L8, L10, L12, L14, L16 to L18, L20 and L27.
+
+The other rules (L9, L11, L13, L15, L19, L21 to L26, L28) are not looked at here; they are kept by reading.
+"""
 
 import ast
 import builtins
