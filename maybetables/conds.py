@@ -29,6 +29,13 @@ def cells_within(parts):
     return cells
 
 
+def check_filling(gaps, filling):
+    """Refuses with NoFilling a filling that lacks one of the sorted gaps, by the first such gap."""
+    for gap in gaps:
+        if gap not in filling:
+            raise NoFilling(gap)
+
+
 class Cond:
     """Any condition. Its fields never change, so what is often asked of it is kept from the start.
 
@@ -49,9 +56,7 @@ class Cond:
 
     def truth(self, filling):
         """Whether it holds at a filling; NoFilling where that lacks a gap, whether or not it matters."""
-        for gap in self.kept_gaps:
-            if gap not in filling:
-                raise NoFilling(gap)
+        check_filling(self.kept_gaps, filling)
         return self.holds(filling)
 
     def holds(self, filling):

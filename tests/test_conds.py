@@ -5,17 +5,10 @@ import unittest
 
 from maybetables.conds import AllOf, Cond, OneOf, Opposite, Same, Truth
 from maybetables.errors import MaybeError, NoFilling
+from tests.samples import HIGH, layered, shape
 
 YES, NO = Truth(True), Truth(False)
-LOW = -(10 ** 60 - 1)
-HIGH = 10 ** 60 - 1
-
-
-def layered(cond, layers):
-    """The condition with so many others around it: an Opposite, an AllOf, a OneOf, an Opposite, and so on."""
-    for number in range(layers):
-        cond = [Opposite(cond), AllOf([cond, YES]), OneOf([NO, cond]), Opposite(cond)][number % 4]
-    return cond
+LOW = -HIGH
 
 
 class InterfaceTest(unittest.TestCase):
@@ -462,26 +455,15 @@ class StandingTest(unittest.TestCase):
 
 
 class PutTest(unittest.TestCase):
-    def shape(self, cond):
-        """The condition as nested tuples, by its fields."""
-        if isinstance(cond, Truth):
-            return ("truth", cond.said)
-        if isinstance(cond, Same):
-            return ("same", cond.one, cond.other)
-        if isinstance(cond, Opposite):
-            return ("opposite", self.shape(cond.part))
-        name = "all" if isinstance(cond, AllOf) else "one"
-        return (name, [self.shape(part) for part in cond.parts])
-
     def becomes(self, cond, cells, wanted):
-        before, handed = copy.deepcopy(self.shape(cond)), list(cells.items())
+        before, handed = copy.deepcopy(shape(cond)), list(cells.items())
         told = cond.put(cells)
         self.assertIsInstance(told, Cond)
-        self.assertEqual(self.shape(told), self.shape(wanted))
+        self.assertEqual(shape(told), shape(wanted))
         self.assertEqual(told.gaps(), wanted.gaps())
         self.assertEqual(told.standing(), wanted.standing())
         self.assertEqual(told.atoms(), wanted.atoms())
-        self.assertEqual(self.shape(cond), before)
+        self.assertEqual(shape(cond), before)
         self.assertEqual(list(cells.items()), handed)
         return told
 
@@ -578,19 +560,19 @@ class PutTest(unittest.TestCase):
         told = cond.put(cells)
         cells["a"] = "d"
         cells["b"] = 7
-        self.assertEqual(self.shape(told), ("all", [("same", "c", 1), ("opposite", ("same", "b", "c"))]))
+        self.assertEqual(shape(told), ("all", [("same", "c", 1), ("opposite", ("same", "b", "c"))]))
         self.assertEqual(told.gaps(), ["b", "c"])
         self.assertEqual(told.standing(), [1])
         self.assertIs(told.truth({"b": 2, "c": 1}), True)
         cells.clear()
         self.assertIs(told.truth({"b": 1, "c": 1}), False)
-        self.assertEqual(self.shape(told.put({"b": 3})), ("all", [("same", "c", 1), ("opposite", ("same", 3, "c"))]))
+        self.assertEqual(shape(told.put({"b": 3})), ("all", [("same", "c", 1), ("opposite", ("same", 3, "c"))]))
 
     def test_put_again(self):
         cond = Same("a", "b")
-        self.assertEqual(self.shape(cond.put({"a": "c"}).put({"c": 1, "a": 2})), ("same", 1, "b"))
-        self.assertEqual(self.shape(cond.put({"a": 1})), ("same", 1, "b"))
-        self.assertEqual(self.shape(cond.put({"b": 2})), ("same", "a", 2))
+        self.assertEqual(shape(cond.put({"a": "c"}).put({"c": 1, "a": 2})), ("same", 1, "b"))
+        self.assertEqual(shape(cond.put({"a": 1})), ("same", 1, "b"))
+        self.assertEqual(shape(cond.put({"b": 2})), ("same", "a", 2))
 
     def test_told_lists_of_what_is_told_change_nothing(self):
         cond = Same("a", 1)

@@ -6,8 +6,7 @@ import unittest
 from maybetables.conds import AllOf, OneOf, Opposite, Same
 from maybetables.errors import MaybeError, TooMany
 from maybetables.fillings import alike, bound, kinds
-
-HIGH = 10 ** 60 - 1
+from tests.samples import HIGH
 
 
 def fresh(values):

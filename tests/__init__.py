@@ -1,0 +1,1 @@
+"""Tests of maybetables, beside the package."""

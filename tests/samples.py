@@ -1,0 +1,143 @@
+"""What several tests draw from: conditions of many forms, and the document's words about them, put plainly."""
+
+import itertools
+import random
+
+from maybetables.conds import AllOf, OneOf, Opposite, Same, Truth
+
+HIGH = 10 ** 60 - 1
+
+
+def shape(cond):
+    """The condition as nested tuples, by its fields."""
+    if isinstance(cond, Truth):
+        return ("truth", cond.said)
+    if isinstance(cond, Same):
+        return ("same", cond.one, cond.other)
+    if isinstance(cond, Opposite):
+        return ("opposite", shape(cond.part))
+    name = "all" if isinstance(cond, AllOf) else "one"
+    return (name, [shape(part) for part in cond.parts])
+
+
+def layered(cond, layers):
+    """The condition with so many others around it: an Opposite, an AllOf, a OneOf, an Opposite, and so on."""
+    for number in range(layers):
+        cond = [Opposite(cond), AllOf([cond, Truth(True)]), OneOf([Truth(False), cond]), Opposite(cond)][number % 4]
+    return cond
+
+
+def small_conds(cells):
+    """Every Same of these cells, the Truths, the Opposites of all these, and each AllOf and OneOf of up to two."""
+    plain = [Truth(True), Truth(False)] + [Same(one, other) for one in cells for other in cells]
+    plain = plain + [Opposite(part) for part in plain]
+    told = list(plain)
+    for sort in (AllOf, OneOf):
+        for many in range(3):
+            told.extend(sort(list(parts)) for parts in itertools.product(plain, repeat=many))
+    return told
+
+
+def drawn_cond(chance, gaps, values, atoms, deep):
+    """Some condition with about so many atoms, no deeper than told."""
+    if deep <= 1 or atoms <= 1:
+        if chance.random() < 0.06:
+            return Truth(chance.random() < 0.5)
+        return Same(chance.choice(gaps + values), chance.choice(gaps + gaps + values))
+    if chance.random() < 0.2:
+        return Opposite(drawn_cond(chance, gaps, values, atoms, deep - 1))
+    many = chance.randint(0 if chance.random() < 0.1 else 2, 4)
+    parts = [drawn_cond(chance, gaps, values, atoms // max(many, 1), deep - 1) for number in range(many)]
+    return chance.choice([AllOf, OneOf])(parts)
+
+
+def drawn_conds(many, seed=1):
+    """So many conditions over few gaps and values, the same each time."""
+    chance = random.Random(seed)
+    told = []
+    for number in range(many):
+        gaps = ["a", "b", "c", "d"][:chance.randint(1, 4)]
+        values = [-1, 0, 1, 7][:chance.randint(0, 3)]
+        told.append(drawn_cond(chance, gaps, values, chance.randint(1, 24), chance.randint(1, 6)))
+    return told
+
+
+def cells_of(assumed):
+    """All cells that stand in assumed things, each once."""
+    return list(dict.fromkeys(cell for thing in assumed for cell in thing[:2]))
+
+
+def agrees(filling, assumed):
+    """Whether a filling with all their gaps agrees with assumed things, by the words of 9."""
+    def value(cell):
+        return filling[cell] if isinstance(cell, str) else cell
+    return all((value(one) == value(other)) == said for one, other, said in assumed)
+
+
+def assumed_so(one, other, said, assumed):
+    """Whether two cells are assumed to be alike (or unlike), in either order."""
+    return any(thing[2] is said and thing[:2] in ((one, other), (other, one)) for thing in assumed)
+
+
+def unlike_by_words(one, other, assumed):
+    """Whether two cells are two unlike values or assumed to be unlike."""
+    values = not isinstance(one, str) and not isinstance(other, str)
+    return values and one != other or assumed_so(one, other, False, assumed)
+
+
+def joined_to(cell, assumed):
+    """All cells to which a chain goes from a cell, by the words of 9."""
+    reached = [cell]
+    for here in reached:
+        for further in cells_of(assumed):
+            if further not in reached and assumed_so(here, further, True, assumed):
+                reached.append(further)
+    return reached
+
+
+def clash_by_words(chain, assumed):
+    """Whether a tuple is a clash of assumed things, by the words of 9 and 10."""
+    if len(chain) == 0:
+        return False
+    if not all(assumed_so(one, other, True, assumed) for one, other in zip(chain, chain[1:])):
+        return False
+    return unlike_by_words(chain[0], chain[-1], assumed)
+
+
+def known_by_words(cond, assumed):
+    """What is known of a condition by assumed things, by the words of 11."""
+    if isinstance(cond, Truth):
+        return cond.said
+    if isinstance(cond, Same):
+        first, second = joined_to(cond.one, assumed), joined_to(cond.other, assumed)
+        if cond.other in first:
+            return True
+        apart = any(unlike_by_words(one, other, assumed) for one in first for other in second)
+        return False if apart else None
+    if isinstance(cond, Opposite):
+        said = known_by_words(cond.part, assumed)
+        return None if said is None else not said
+    settling = isinstance(cond, OneOf)
+    told = [known_by_words(part, assumed) for part in cond.parts]
+    if settling in told:
+        return settling
+    return None if None in told else not settling
+
+
+def paper_by_words(cond, paper, assumed=()):
+    """Whether a paper is one for a condition by what is assumed, by the words of 12."""
+    assumed = list(assumed)
+    if paper[0] == "holds":
+        return known_by_words(cond, assumed) is True
+    if paper[0] == "clash":
+        return clash_by_words(paper[1], assumed)
+    sort, one, other, alike, unlike = paper
+    return (paper_by_words(cond, alike, assumed + [(one, other, True)])
+            and paper_by_words(cond, unlike, assumed + [(one, other, False)]))
+
+
+def splits_deep(paper):
+    """How many splits of a paper stand one within another."""
+    if paper[0] != "split":
+        return 0
+    return 1 + max(splits_deep(paper[3]), splits_deep(paper[4]))
