@@ -1,8 +1,14 @@
 """The form of the package's files, by the numbers of the rules in ../shared/LANGUAGE.md.
 
-Each rule_.. tells the places that break one rule, as pairs (file, line); in some places it is narrower than the rule
-(no annotations at all, of the methods with two underscores __init__ alone), which it says there. Of L11 it sees sets
-that are walked and errors whose words are read; how deep the calls go is asked where conditions are looked at.
+Each rule_.. tells the places that break one rule, as pairs (file, line), as far as the text of the files shows it.
+
+Narrower than the rule: no annotations at all (L4, L21); of the methods with two underscores __init__ alone (L28).
+
+Looser than the rule, so to be kept by reading as well: L11 (only errors whose words are read, and sets by L24; how
+deep calls go is asked in test_looking.py), L15 (a list of a file's top that changes by way of a call), L19
+(comparisons, truth tests and len within a try), L22 (what stands as key= besides Python's own names), L23 (a walked
+list that is changed under another name, or by a call), L25 (which sort of value a method is called on), L26 (where own
+methods called items, keys or values are walked).
 """
 
 import ast
@@ -572,6 +578,13 @@ def changed_thing(node):
     return ast.Module([], [])
 
 
+def is_set(node):
+    """Whether an expression is plainly a set."""
+    if isinstance(node, ast.BinOp):
+        return is_set(node.left) and is_set(node.right)
+    return isinstance(node, ast.Set) or called_name(node) in ("set", "frozenset")
+
+
 def rule_24(package):
     for file in package.files:
         for node in file.nodes(ast.Call, ast.Set):
@@ -580,8 +593,11 @@ def rule_24(package):
             around = file.around[node]
             while isinstance(around, ast.BinOp) and isinstance(around.op, (ast.Sub, ast.BitAnd, ast.BitOr, ast.BitXor)):
                 node, around = around, file.around[around]
-            if isinstance(around, ast.Compare):
-                if isinstance(around.ops[0], (ast.In, ast.NotIn, ast.Eq, ast.NotEq)) and len(around.ops) == 1:
+            if isinstance(around, ast.Compare) and len(around.ops) == 1:
+                sides = [around.left, around.comparators[0]]
+                if isinstance(around.ops[0], (ast.In, ast.NotIn)) and sides[1] is node:
+                    continue
+                if isinstance(around.ops[0], (ast.Eq, ast.NotEq)) and all(is_set(side) for side in sides):
                     continue
             if called_name(around) in ("sorted", "len") and around.args == [node] and not around.keywords:
                 continue
@@ -589,6 +605,7 @@ def rule_24(package):
 
 
 def rule_25(package):
+    fields = {name for name, file, line in package.fields}
     for file in package.files:
         for node in file.nodes(ast.Attribute):
             around = file.around[node]
@@ -596,7 +613,7 @@ def rule_25(package):
             if is_called and node.attr not in METHODS | package.method_names:
                 yield file.name, node.lineno
             handed_on = not is_called and isinstance(node.ctx, ast.Load) and not isinstance(around, ast.keyword)
-            if handed_on and node.attr in package.method_names:
+            if handed_on and node.attr in (package.method_names | METHODS - fields) - DUNDERS:
                 yield file.name, node.lineno
 
 
@@ -733,8 +750,10 @@ BROKEN = {
          "def f(x):\n    for k, y in x.items():\n        x[k] = y\n",
          "def f(x):\n    return max(range(x), 1)\n"],
     24: ["def f(x):\n    y = set(x)\n    return y\n", "def f(x):\n    for y in set(x):\n        pass\n",
+         "def f(x, y):\n    return set(x) == y\n", "def f(x, y):\n    return set(x) in y\n",
          "def f(x):\n    return sorted(set(x), key=len)\n", "def f(x):\n    return list(set(x) - set(x))\n"],
-    25: ["def f(x):\n    x.sort()\n", "def f(x):\n    return x.title()\n", "def f(x):\n    return x.union(x)\n",
+    25: ["def f(x):\n    return [x.append]\n", "def f(x):\n    x.sort()\n",
+         "def f(x):\n    return x.title()\n", "def f(x):\n    return x.union(x)\n",
          "class A:\n    def g(self):\n        pass\n\n\ndef f(x):\n    return [x.g]\n"],
     26: ["class A:\n    def title(self):\n        pass\n",
          "class A:\n    def __init__(self):\n        self.items = 1\n",
@@ -781,6 +800,8 @@ def f(xs, y):
         found["a"] = g(xs)
     except Bad as e:
         raise KeyError(y) from e
+    if set(xs) == set(found) or y in set(xs):
+        return []
     told = sorted(set(xs)) if isinstance(y, (int, str)) else sorted(xs, key=lambda z: -z, reverse=True)
     while len(told) > MOST:
         told.pop()
