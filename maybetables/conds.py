@@ -157,3 +157,24 @@ class Opposite(Cond):
 
     def replaced(self, cells):
         return Opposite(self.part.put(cells))
+
+
+def same_cells(cells, others):
+    """A Same of each two cells that stand at one place, but of those that are one cell."""
+    return [Same(one, other) for one, other in zip(cells, others) if one != other]
+
+
+def all_of(parts):
+    """A condition that holds where each of some does, without those that hold always."""
+    if False in [part.settled for part in parts]:
+        return Truth(False)
+    left = [part for part in parts if part.settled is None]
+    return left[0] if len(left) == 1 else AllOf(left)
+
+
+def one_of(parts):
+    """A condition that holds where one of some or more does, without those that never hold."""
+    if True in [part.settled for part in parts]:
+        return Truth(True)
+    left = [part for part in parts if part.settled is None]
+    return left[0] if len(left) == 1 else OneOf(left)

@@ -104,6 +104,8 @@ class Grounds:
             if not said:
                 self.apart[(self.heads[one], self.heads[other])] = True
                 self.apart[(self.heads[other], self.heads[one])] = True
+        # What left_open told by these, since one condition may stand within many others.
+        self.told = {}
 
     def compared(self, one, other):
         """Whether a Same of two cells is known to hold (True), known to fail (False), or open (None)."""
@@ -127,23 +129,25 @@ def left_open(cond, grounds):
         said = grounds.compared(cond.one, cond.other)
         return cond if said is None else said
     if isinstance(cond, Opposite):
-        return opposite_left(left_open(cond.part, grounds))
-    return parts_left(cond.parts, isinstance(cond, OneOf), grounds)
+        return opposite_left(cond, left_open(cond.part, grounds))
+    if cond not in grounds.told:
+        grounds.told[cond] = parts_left(cond, isinstance(cond, OneOf), grounds)
+    return grounds.told[cond]
 
 
-def opposite_left(left):
+def opposite_left(cond, left):
     """What left_open tells of an Opposite, by what it tells of its part."""
     if left is True or left is False:
         return not left
     if isinstance(left, Opposite):
         return left.part
-    return Opposite(left)
+    return cond if left == cond.part else Opposite(left)
 
 
-def parts_left(parts, settling, grounds):
+def parts_left(cond, settling, grounds):
     """What left_open tells of a OneOf (settling is True: one part that holds settles it) or of an AllOf (False)."""
     kept = []
-    for part in parts:
+    for part in cond.parts:
         left = left_open(part, grounds)
         if left is not True and left is not False:
             kept.append(left)
@@ -153,6 +157,9 @@ def parts_left(parts, settling, grounds):
         return not settling
     if len(kept) == 1:
         return kept[0]
+    # A condition that is made anew is worked through anew, so where nothing went out the same one is told.
+    if tuple(kept) == cond.parts:
+        return cond
     return OneOf(kept) if settling else AllOf(kept)
 
 

@@ -1,7 +1,7 @@
 """Tables with gaps: rows under conditions, and a condition for the whole."""
 
 from maybetables.conds import Truth, cell_value, cells_within, check_filling, gaps_among, values_among
-from maybetables.errors import Short, Twice
+from maybetables.errors import NoColumn, Short, Twice
 
 
 def check_columns(columns):
@@ -16,6 +16,18 @@ def check_rows(rows, width):
     for number, row in enumerate(rows):
         if len(row[0]) != width:
             raise Short(number)
+
+
+def check_named(names, columns):
+    """Refuses with NoColumn names of which one is no column, by the first such name in their order."""
+    for name in names:
+        if name not in columns:
+            raise NoColumn(name)
+
+
+def cells_in(names, columns, row):
+    """A row's cells in some of the columns, in the order of these names."""
+    return tuple([row[columns.index(name)] for name in names])
 
 
 def cells_put(row, cells):

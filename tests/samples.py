@@ -4,6 +4,8 @@ import itertools
 import random
 
 from maybetables.conds import AllOf, OneOf, Opposite, Same, Truth
+from maybetables.fillings import bound, kinds
+from maybetables.tables import Table
 
 HIGH = 10 ** 60 - 1
 
@@ -141,3 +143,67 @@ def splits_deep(paper):
     if paper[0] != "split":
         return 0
     return 1 + max(splits_deep(paper[3]), splits_deep(paper[4]))
+
+
+def deep(cond):
+    """How many conditions stand one within another."""
+    if isinstance(cond, Opposite):
+        return 1 + deep(cond.part)
+    return 1 + max([deep(part) for part in getattr(cond, "parts", ())], default=0)
+
+
+def table_shape(table):
+    """The table as plain lists and tuples."""
+    return (table.columns(), [(cells, shape(cond)) for cells, cond in table.rows()], shape(table.whole()))
+
+
+def values_by(cells, filling):
+    """What cells come to at a filling, as a tuple."""
+    return tuple(filling[cell] if isinstance(cell, str) else cell for cell in cells)
+
+
+def filled_by_words(table, filling):
+    """The filled list, by the words of 16."""
+    if not table.whole().truth(filling):
+        return None
+    return sorted({values_by(cells, filling) for cells, cond in table.rows() if cond.truth(filling)})
+
+
+def drawn_table(chance, columns, rows, gaps, values):
+    """Some table with these columns and so many rows, over some of these gaps and values."""
+    gaps, values = gaps[:chance.randint(1, len(gaps))], values[:chance.randint(1, len(values))]
+    told = []
+    for place in range(rows):
+        cells = [chance.choice(gaps + values) for column in columns]
+        told.append((cells, chance.choice([Truth(True), drawn_cond(chance, gaps, values, 4, 3)])))
+    return Table(columns, told, chance.choice([None, drawn_cond(chance, gaps, values, 4, 3)]))
+
+
+def drawn_tables(many, seed=9):
+    """So many tables over few gaps and values, the same each time."""
+    chance = random.Random(seed)
+    told = []
+    for number in range(many):
+        columns = ["x", "a", "y", "z"][:chance.randint(0, 4)]
+        told.append(drawn_table(chance, columns, chance.randint(0, 5), ["a", "b", "c"], [0, 1, -2]))
+    return told
+
+
+def told_within(test, cond, made_of, tables, further=(), sames=0):
+    """Asks what 18 says of a condition that is told: made of these, and so many Sames, for an ask of these tables."""
+    gaps = {gap for table in tables for gap in table.gaps()}
+    values = {value for table in tables for value in table.standing()} | set(further)
+    test.assertLessEqual(set(cond.gaps()), gaps)
+    test.assertLessEqual(set(cond.standing()), values)
+    test.assertLessEqual(cond.atoms(), sum(part.atoms() for part in made_of) + sames)
+    test.assertLessEqual(deep(cond), max(deep(part) for part in made_of) + 4)
+
+
+def some_fillings(gaps, values):
+    """One filling of each kind over gaps and values; where that would be too many, three hundred fillings."""
+    gaps, values = sorted(set(gaps)), sorted(set(values))
+    if bound(len(gaps), len(values)) <= 1000:
+        return kinds(gaps, values)
+    chance = random.Random(len(gaps))
+    stock = values + [100, 101, 102]
+    return [{gap: chance.choice(stock) for gap in gaps} for number in range(300)]

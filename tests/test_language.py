@@ -677,7 +677,8 @@ class PackageTest(unittest.TestCase):
                 self.assertTrue(path.is_file())
 
     def test_each_file_that_the_document_names_so_far(self):
-        for stem in ("__init__", "errors", "conds", "fillings", "knowing", "looking", "simple", "tables"):
+        for stem in ("__init__", "errors", "conds", "fillings", "knowing", "looking", "simple", "tables", "choosing",
+                     "pairing", "sureness", "counting"):
             self.assertIn(stem + ".py", package_texts())
 
     def test_no_rule_is_broken(self):

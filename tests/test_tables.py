@@ -1,14 +1,13 @@
 """Tables: columns, rows and whole, what stands in them, filled, and cells put in."""
 
 import itertools
-import random
 import unittest
 
 from maybetables.conds import AllOf, Cond, OneOf, Opposite, Same, Truth
 from maybetables.errors import MaybeError, NoFilling, Short, Twice
 from maybetables.fillings import kinds
 from maybetables.tables import Table
-from tests.samples import HIGH, drawn_cond, shape
+from tests.samples import HIGH, drawn_tables, filled_by_words, table_shape
 
 YES, NO = Truth(True), Truth(False)
 
@@ -17,37 +16,6 @@ def some_table():
     """Two columns, three rows, and a whole, with gaps and values in each place."""
     return Table(["x", "y"], [(["a", 1], YES), ((2, "b"), Same("c", 3)), ([4, "a"], Opposite(Same("b", "d")))],
                  OneOf([Same("e", 5), Same("a", -6)]))
-
-
-def table_shape(table):
-    """The table as plain lists and tuples."""
-    return (table.columns(), [(cells, shape(cond)) for cells, cond in table.rows()], shape(table.whole()))
-
-
-def filled_by_words(table, filling):
-    """The filled list, by the words of 16."""
-    if not table.whole().truth(filling):
-        return None
-    told = []
-    for cells, cond in table.rows():
-        if cond.truth(filling):
-            told.append(tuple(filling[cell] if isinstance(cell, str) else cell for cell in cells))
-    return sorted(set(told))
-
-
-def drawn_tables(many):
-    """So many tables over few gaps and values, the same each time."""
-    chance = random.Random(9)
-    told = []
-    for number in range(many):
-        gaps, values = ["a", "b", "c"][:chance.randint(1, 3)], [0, 1, -2][:chance.randint(1, 3)]
-        columns = ["x", "a", "y", "z"][:chance.randint(0, 4)]
-        rows = []
-        for place in range(chance.randint(0, 5)):
-            cells = [chance.choice(gaps + values) for column in columns]
-            rows.append((cells, chance.choice([YES, drawn_cond(chance, gaps, values, 4, 3)])))
-        told.append(Table(columns, rows, chance.choice([None, drawn_cond(chance, gaps, values, 4, 3)])))
-    return told
 
 
 class MadeTest(unittest.TestCase):
