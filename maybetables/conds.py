@@ -2,6 +2,9 @@
 
 from maybetables.errors import NoFilling
 
+# A condition with fewer atoms is sooner worked out than kept.
+WORTH_KEEPING = 8
+
 
 def cell_value(cell, filling):
     """What a cell comes to at a filling that has it, if it is a gap."""
@@ -39,8 +42,8 @@ def check_filling(gaps, filling):
 class Cond:
     """Any condition. Its fields never change, so what is often asked of it is kept from the start.
 
-    Each sort has two methods of its own: worked(filling), whether it holds at a filling that has all
-    its gaps, and, if a gap can stand in it, replaced(cells), the condition with these cells put in.
+    Each sort has two methods of its own: worked(filling, told), whether it holds at a filling that has all its
+    gaps, and, if a gap can stand in it, replaced(cells, made), the condition with these cells put in.
     """
 
     def __init__(self, cells, atoms):
@@ -52,18 +55,25 @@ class Cond:
         # twice in a part that stands twice in another, and so on, would be come to a million times.
         self.settled = None
         if not self.kept_gaps:
-            self.settled = self.worked({})
+            self.settled = self.worked({}, {})
 
     def truth(self, filling):
         """Whether it holds at a filling; NoFilling where that lacks a gap, whether or not it matters."""
         check_filling(self.kept_gaps, filling)
-        return self.holds(filling)
+        return self.holds(filling, {})
 
-    def holds(self, filling):
-        """As truth, at a filling that is known to have all gaps."""
+    def holds(self, filling, told):
+        """As truth, at a filling that is known to have all gaps.
+
+        What was told at this filling is kept in the dict told, since one condition may stand within many others.
+        """
         if self.settled is not None:
             return self.settled
-        return self.worked(filling)
+        if self.kept_atoms < WORTH_KEEPING:
+            return self.worked(filling, told)
+        if self not in told:
+            told[self] = self.worked(filling, told)
+        return told[self]
 
     def gaps(self):
         """The gaps that stand in it, sorted, each once."""
@@ -79,9 +89,15 @@ class Cond:
 
     def put(self, cells):
         """The condition with the cells that a dict gives in the place of gaps, all at once."""
+        return self.put_once(cells, {})
+
+    def put_once(self, cells, made):
+        """As put. What was made with these cells is kept in the dict made: what stands at many places stays one."""
         for gap in self.kept_gaps:
             if gap in cells:
-                return self.replaced(cells)
+                if self not in made:
+                    made[self] = self.replaced(cells, made)
+                return made[self]
         return self
 
 
@@ -92,7 +108,7 @@ class Truth(Cond):
         self.said = said
         Cond.__init__(self, [], 0)
 
-    def worked(self, filling):
+    def worked(self, filling, told):
         return self.said
 
 
@@ -104,10 +120,10 @@ class Same(Cond):
         self.other = other
         Cond.__init__(self, [one, other], 1)
 
-    def worked(self, filling):
+    def worked(self, filling, told):
         return cell_value(self.one, filling) == cell_value(self.other, filling)
 
-    def replaced(self, cells):
+    def replaced(self, cells, made):
         return Same(cells.get(self.one, self.one), cells.get(self.other, self.other))
 
 
@@ -118,14 +134,14 @@ class AllOf(Cond):
         self.parts = tuple(parts)
         Cond.__init__(self, cells_within(self.parts), sum([part.kept_atoms for part in self.parts]))
 
-    def worked(self, filling):
+    def worked(self, filling, told):
         for part in self.parts:
-            if not part.holds(filling):
+            if not part.holds(filling, told):
                 return False
         return True
 
-    def replaced(self, cells):
-        return AllOf([part.put(cells) for part in self.parts])
+    def replaced(self, cells, made):
+        return AllOf([part.put_once(cells, made) for part in self.parts])
 
 
 class OneOf(Cond):
@@ -135,14 +151,14 @@ class OneOf(Cond):
         self.parts = tuple(parts)
         Cond.__init__(self, cells_within(self.parts), sum([part.kept_atoms for part in self.parts]))
 
-    def worked(self, filling):
+    def worked(self, filling, told):
         for part in self.parts:
-            if part.holds(filling):
+            if part.holds(filling, told):
                 return True
         return False
 
-    def replaced(self, cells):
-        return OneOf([part.put(cells) for part in self.parts])
+    def replaced(self, cells, made):
+        return OneOf([part.put_once(cells, made) for part in self.parts])
 
 
 class Opposite(Cond):
@@ -152,11 +168,11 @@ class Opposite(Cond):
         self.part = part
         Cond.__init__(self, cells_within([part]), part.kept_atoms)
 
-    def worked(self, filling):
-        return not self.part.holds(filling)
+    def worked(self, filling, told):
+        return not self.part.holds(filling, told)
 
-    def replaced(self, cells):
-        return Opposite(self.part.put(cells))
+    def replaced(self, cells, made):
+        return Opposite(self.part.put_once(cells, made))
 
 
 def same_cells(cells, others):

@@ -53,14 +53,19 @@ def looked_under(cond, assumed):
     return ("paper", ("split", same.one, same.other, alike[1], unlike[1]))
 
 
+def looked_over(cond, gaps):
+    """As looked, whatever the bound; the filling has just these gaps, among which are all of the condition."""
+    said, told = looked_under(cond, [])
+    if said == "paper":
+        return (said, told)
+    filling = {}
+    for gap in gaps:
+        # A gap of which nothing was assumed does not matter there.
+        filling[gap] = told.get(gap, 0)
+    return (said, filling)
+
+
 def looked(cond):
     """("paper", paper) for a condition that can't fail, else ("filling", filling) at which it does not hold."""
     check_bound(len(cond.gaps()), len(cond.standing()))
-    told = looked_under(cond, [])
-    if told[0] == "paper":
-        return told
-    filling = {}
-    for gap in cond.gaps():
-        # A gap of which nothing was assumed does not matter there.
-        filling[gap] = told[1].get(gap, 0)
-    return ("filling", filling)
+    return looked_over(cond, cond.gaps())

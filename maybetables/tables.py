@@ -78,11 +78,23 @@ class Table:
     def filled(self, filling):
         """The sorted rows of values at a filling, each once; None where its whole fails; NoFilling without a gap."""
         check_filling(self.kept_gaps, filling)
-        if not self.kept_whole.holds(filling):
+        told = {}
+        if not self.kept_whole.holds(filling, told):
             return None
-        return sorted(set([values_at(row, filling) for row, cond in self.kept_rows if cond.holds(filling)]))
+        return sorted(set([values_at(row, filling) for row, cond in self.kept_rows if cond.holds(filling, told)]))
 
     def put(self, cells):
         """The table with the cells that a dict gives in the place of gaps, all at once."""
-        rows = [(cells_put(row, cells), cond.put(cells)) for row, cond in self.kept_rows]
-        return Table(self.kept_columns, rows, self.kept_whole.put(cells))
+        made = {}
+        rows = [(cells_put(row, cells), cond.put_once(cells, made)) for row, cond in self.kept_rows]
+        return Table(self.kept_columns, rows, self.kept_whole.put_once(cells, made))
+
+
+def gaps_of_both(one, other):
+    """The gaps of two tables, sorted, each once."""
+    return sorted(set(one.gaps()) | set(other.gaps()))
+
+
+def values_of_both(one, other):
+    """The values of two tables, rising, each once."""
+    return sorted(set(one.standing()) | set(other.standing()))

@@ -4,7 +4,9 @@ import itertools
 import random
 
 from maybetables.conds import AllOf, OneOf, Opposite, Same, Truth
+from maybetables.errors import MaybeError
 from maybetables.fillings import bound, kinds
+from maybetables.looking import is_paper
 from maybetables.tables import Table
 
 HIGH = 10 ** 60 - 1
@@ -207,3 +209,79 @@ def some_fillings(gaps, values):
     chance = random.Random(len(gaps))
     stock = values + [100, 101, 102]
     return [{gap: chance.choice(stock) for gap in gaps} for number in range(300)]
+
+
+def every_filling(gaps, values, further):
+    """Every filling of these gaps with these values and so many further ones."""
+    values = sorted(set(values))
+    stock = values + [number for number in range(1000, 1000 + further) if number not in values]
+    return [dict(zip(gaps, choice)) for choice in itertools.product(stock, repeat=len(gaps))]
+
+
+def rows_there(table, filling):
+    """The rows whose conditions hold at a filling, as tuples of values, whatever the whole says."""
+    return [values_by(cells, filling) for cells, cond in table.rows() if cond.truth(filling)]
+
+
+def in_order(columns, names, cells):
+    """Cells that stand in the order of some columns, in the order of these names."""
+    return tuple(cells[columns.index(name)] for name in names)
+
+
+def retold(chance, table):
+    """The same table, told otherwise: in another order, with rows twice or parted in two, and rows that never are."""
+    cells = table.gaps() + table.standing() + [0]
+
+    def some():
+        return Same(chance.choice(cells), chance.choice(cells))
+    columns = chance.sample(table.columns(), len(table.columns()))
+    rows = []
+    for row, cond in table.rows():
+        row, part = in_order(table.columns(), columns, row), some()
+        rows.extend(chance.choice([[(row, cond)], [(row, cond), (row, AllOf([cond, part]))],
+                                   [(row, AllOf([part, cond])), (row, AllOf([cond, Opposite(part)]))]]))
+        if chance.random() < 0.3:
+            rows.append((row, AllOf([part, Opposite(part)])))
+    chance.shuffle(rows)
+    return Table(columns, rows, chance.choice([table.whole(), Opposite(Opposite(table.whole()))]))
+
+
+def spoiled(chance, table):
+    """A table with one cell, one row's condition or the whole told otherwise."""
+    cells = table.gaps() + table.standing() + [0]
+    some = Same(chance.choice(cells), chance.choice(cells))
+    rows, whole = table.rows(), table.whole()
+    place = chance.randrange(len(rows)) if rows else None
+    if place is None or chance.random() < 0.2:
+        whole = chance.choice([AllOf, OneOf])([whole, some])
+    elif chance.random() < 0.5:
+        rows[place] = (rows[place][0], chance.choice([AllOf, OneOf])([rows[place][1], some]))
+    else:
+        rows[place] = ([chance.choice(cells) for cell in rows[place][0]], rows[place][1])
+    return Table(table.columns(), rows, whole)
+
+
+def refused(test, error, ask, *handed):
+    """The refusal, which is to be of just this class."""
+    with test.assertRaises(error) as caught:
+        ask(*handed)
+    test.assertIsInstance(caught.exception, MaybeError)
+    test.assertIs(type(caught.exception), error)
+    return caught.exception
+
+
+def paper_right(test, cond, paper):
+    """Asks that a paper that was told is one for a condition, and no deeper than the document says."""
+    test.assertIs(is_paper(cond, paper), True)
+    test.assertLessEqual(splits_deep(paper), 100)
+    # A deep paper takes long by the words, and is_paper has tests of its own.
+    if splits_deep(paper) < 10 and cond.atoms() < 1000:
+        test.assertIs(paper_by_words(cond, paper), True)
+
+
+def filling_right(test, filling, gaps):
+    """Asks that a filling that was told is one of just these gaps."""
+    test.assertIs(type(filling), dict)
+    test.assertEqual(sorted(filling), sorted(gaps))
+    for value in filling.values():
+        test.assertIs(type(value), int)

@@ -6,11 +6,11 @@ import unittest
 
 from maybetables.choosing import called, chosen, narrowed
 from maybetables.conds import AllOf, OneOf, Opposite, Same, Truth
-from maybetables.errors import MaybeError, NoColumn, Twice
+from maybetables.errors import NoColumn, Twice
 from maybetables.fillings import kinds
 from maybetables.tables import Table
-from tests.samples import (HIGH, drawn_cond, drawn_tables, layered, shape, some_fillings, table_shape, told_within,
-                           values_by)
+from tests.samples import (HIGH, drawn_cond, drawn_tables, layered, refused, shape, some_fillings, table_shape,
+                           told_within, values_by)
 
 YES, NO = Truth(True), Truth(False)
 
@@ -28,11 +28,7 @@ def by_columns(cells, columns, filling):
 
 class AskTest(unittest.TestCase):
     def refused(self, error, name, ask, *handed):
-        with self.assertRaises(error) as caught:
-            ask(*handed)
-        self.assertIsInstance(caught.exception, MaybeError)
-        self.assertIs(type(caught.exception), error)
-        self.assertEqual(caught.exception.name, name)
+        self.assertEqual(refused(self, error, ask, *handed).name, name)
 
     def same_whole(self, told, table):
         told_within(self, told.whole(), [table.whole()], [table])

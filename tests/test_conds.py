@@ -1,6 +1,7 @@
 """Conditions: their fields, where they hold, and what stands in them."""
 
 import copy
+import itertools
 import unittest
 
 from maybetables.conds import AllOf, Cond, OneOf, Opposite, Same, Truth
@@ -243,6 +244,25 @@ class TruthTest(unittest.TestCase):
         self.fails(one, {"a": 1, "b": 3})
         self.holds(other, {"a": 1, "c": 4})
         self.holds(part, {"a": 1})
+
+    def test_a_long_condition_at_several_places(self):
+        def long():
+            return OneOf([AllOf([Same("a", value), Opposite(Same("b", value)), Same("c", "c")]) for value in range(4)])
+        part = long()
+        shared = OneOf([AllOf([part, Same("c", 1)]), AllOf([Opposite(part), Same("c", 2)]),
+                        AllOf([Same("c", 3), part])])
+        plain = OneOf([AllOf([long(), Same("c", 1)]), AllOf([Opposite(long()), Same("c", 2)]),
+                       AllOf([Same("c", 3), long()])])
+        self.assertEqual(shared.atoms(), 39)
+        truths = []
+        for values in itertools.product(range(5), repeat=3):
+            filling = dict(zip("abc", values))
+            truths.append(plain.truth(filling))
+            self.assertIs(shared.truth(filling), truths[-1])
+            self.assertIs(part.truth(filling), long().truth(filling))
+        self.assertGreater(truths.count(True), 20)
+        for cells in ({"a": "b", "b": "a"}, {"c": 2}, {"a": 1, "d": 5}, {"d": 5}, {}):
+            self.assertEqual(shape(shared.put(cells)), shape(plain.put(cells)))
 
     def test_many_places_without_an_atom(self):
         cond = Truth(True)

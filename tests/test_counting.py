@@ -6,11 +6,11 @@ import unittest
 
 from maybetables.conds import AllOf, OneOf, Opposite, Same, Truth
 from maybetables.counting import counted, tally
-from maybetables.errors import MaybeError, TooFew, TooMany, Unlike
+from maybetables.errors import TooFew, TooMany, Unlike
 from maybetables.fillings import bound, kinds
 from maybetables.sureness import maybe
 from maybetables.tables import Table
-from tests.samples import HIGH, drawn_tables, filled_by_words, table_shape
+from tests.samples import HIGH, drawn_tables, filled_by_words, refused, table_shape
 
 YES, NO = Truth(True), Truth(False)
 
@@ -47,13 +47,6 @@ def counted_by_words(table, row, stock):
 
 
 class CountTest(unittest.TestCase):
-    def refused(self, error, ask, *handed):
-        with self.assertRaises(error) as caught:
-            ask(*handed)
-        self.assertIsInstance(caught.exception, MaybeError)
-        self.assertIs(type(caught.exception), error)
-        return caught.exception
-
     def counted_right(self, table, row, further=3):
         """Counts in stocks from the least one on; the tally that they go by."""
         told = tally(table, row)
@@ -65,7 +58,7 @@ class CountTest(unittest.TestCase):
             self.assertIs(type(number), int)
             self.assertEqual(number, counted_by_words(table, row, stock))
         if least:
-            self.assertEqual(self.refused(TooFew, counted, table, row, least - 1).wanted, least)
+            self.assertEqual(refused(self, TooFew, counted, table, row, least - 1).wanted, least)
         return told
 
 
@@ -144,45 +137,45 @@ class CountedTest(CountTest):
     def test_too_few(self):
         table = Table(["x"], [([1], Same("a", 2))], Opposite(Same("a", 3)))
         for stock in (2, 1, 0, -1, -HIGH):
-            self.assertEqual(self.refused(TooFew, counted, table, (1,), stock).wanted, 3)
-            self.assertEqual(self.refused(TooFew, counted, table, (4,), stock + 1).wanted, 4)
-        self.assertIs(type(self.refused(TooFew, counted, table, (1,), 2).wanted), int)
-        self.assertEqual(self.refused(TooFew, counted, Table([], []), (), -1).wanted, 0)
+            self.assertEqual(refused(self, TooFew, counted, table, (1,), stock).wanted, 3)
+            self.assertEqual(refused(self, TooFew, counted, table, (4,), stock + 1).wanted, 4)
+        self.assertIs(type(refused(self, TooFew, counted, table, (1,), 2).wanted), int)
+        self.assertEqual(refused(self, TooFew, counted, Table([], []), (), -1).wanted, 0)
         self.assertEqual(counted(table, (1,), 3), 1)
 
     def test_the_row_has_its_part_in_what_is_wanted(self):
         table = Table(["x", "y"], [(["a", "b"], YES)])
-        self.assertEqual(self.refused(TooFew, counted, table, (4, 5), 1).wanted, 2)
-        self.assertEqual(self.refused(TooFew, counted, table, (4, 4), 0).wanted, 1)
+        self.assertEqual(refused(self, TooFew, counted, table, (4, 5), 1).wanted, 2)
+        self.assertEqual(refused(self, TooFew, counted, table, (4, 4), 0).wanted, 1)
         self.assertEqual(counted(table, (4, 5), 2), 1)
         self.assertEqual(counted(table, (4, 4), 1), 1)
-        self.assertEqual(self.refused(TooFew, counted, Table(["x"], [], Same("a", 1)), (2,), 1).wanted, 2)
+        self.assertEqual(refused(self, TooFew, counted, Table(["x"], [], Same("a", 1)), (2,), 1).wanted, 2)
 
     def test_a_row_of_another_length(self):
         for columns in ([], ["x"], ["x", "y"]):
             for length in range(4):
                 if length != len(columns):
-                    self.refused(Unlike, tally, Table(columns, []), tuple(range(length)))
-                    self.refused(Unlike, counted, Table(columns, []), tuple(range(length)), 9)
+                    refused(self, Unlike, tally, Table(columns, []), tuple(range(length)))
+                    refused(self, Unlike, counted, Table(columns, []), tuple(range(length)), 9)
 
     def test_too_many(self):
         table = Table(["x"], [([gap], YES) for gap in "abcd"] + [([value], YES) for value in range(3)])
         self.assertEqual((bound(4, 3), bound(4, 4)), (840, 1680))
         self.assertEqual(tally(table, (2,)), tally_by_words(table, (2,)))
-        self.refused(TooMany, tally, table, (3,))
-        self.refused(TooMany, counted, table, (3,), 9)
+        refused(self, TooMany, tally, table, (3,))
+        refused(self, TooMany, counted, table, (3,), 9)
         for rows in ([], [([1], NO)]):
             table = Table(["x"], rows, AllOf([Same("a", 0), Same("b", 1), Same("c", 2), Same("d", "d")]))
             self.assertEqual(len(tally(table, (2,))), 5)
-            self.refused(TooMany, tally, table, (3,))
+            refused(self, TooMany, tally, table, (3,))
 
     def test_in_their_order(self):
         table = Table(["x"], [([gap], YES) for gap in "abcdefg"])
-        self.refused(Unlike, tally, table, ())
-        self.refused(Unlike, counted, table, (1, 2), 0)
-        self.refused(Unlike, counted, Table(["x"], [([1], YES)]), (), 0)
-        self.refused(TooMany, counted, table, (1,), 0)
-        self.refused(TooMany, counted, table, (1,), -5)
+        refused(self, Unlike, tally, table, ())
+        refused(self, Unlike, counted, table, (1, 2), 0)
+        refused(self, Unlike, counted, Table(["x"], [([1], YES)]), (), 0)
+        refused(self, TooMany, counted, table, (1,), 0)
+        refused(self, TooMany, counted, table, (1,), -5)
 
     def test_just_as_the_words_say(self):
         chance = random.Random(8)

@@ -678,7 +678,7 @@ class PackageTest(unittest.TestCase):
 
     def test_each_file_that_the_document_names_so_far(self):
         for stem in ("__init__", "errors", "conds", "fillings", "knowing", "looking", "simple", "tables", "choosing",
-                     "pairing", "sureness", "counting"):
+                     "pairing", "sureness", "counting", "rules", "fixing", "sameness", "lists"):
             self.assertIn(stem + ".py", package_texts())
 
     def test_no_rule_is_broken(self):

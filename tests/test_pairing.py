@@ -4,10 +4,11 @@ import random
 import unittest
 
 from maybetables.conds import AllOf, OneOf, Opposite, Same, Truth
-from maybetables.errors import MaybeError, TooMany, Twice, Unlike
+from maybetables.errors import TooMany, Twice, Unlike
 from maybetables.pairing import crossed, joined, less, together
 from maybetables.tables import Table
-from tests.samples import HIGH, deep, drawn_table, layered, some_fillings, table_shape, told_within, values_by
+from tests.samples import (HIGH, deep, drawn_table, layered, refused, some_fillings, table_shape, told_within,
+                           values_by)
 
 YES, NO = Truth(True), Truth(False)
 
@@ -34,13 +35,6 @@ def row_by_names(columns, cells):
 
 
 class PairTest(unittest.TestCase):
-    def refused(self, error, ask, one, other):
-        with self.assertRaises(error) as caught:
-            ask(one, other)
-        self.assertIsInstance(caught.exception, MaybeError)
-        self.assertIs(type(caught.exception), error)
-        return caught.exception
-
     def fillings(self, one, other):
         return some_fillings(one.gaps() + other.gaps(), one.standing() + other.standing())
 
@@ -165,28 +159,28 @@ class CrossedTest(PairTest):
         self.assertEqual(crossed(some, empty).rows(), [])
 
     def test_a_column_of_both(self):
-        self.assertEqual(self.refused(Twice, crossed, Table(["x"], []), Table(["x"], [])).name, "x")
-        self.assertEqual(self.refused(Twice, crossed, Table(["z", "x"], []), Table(["w", "z"], [])).name, "z")
-        self.assertEqual(self.refused(Twice, crossed, left_table(), left_table()).name, "x")
+        self.assertEqual(refused(self, Twice, crossed, Table(["x"], []), Table(["x"], [])).name, "x")
+        self.assertEqual(refused(self, Twice, crossed, Table(["z", "x"], []), Table(["w", "z"], [])).name, "z")
+        self.assertEqual(refused(self, Twice, crossed, left_table(), left_table()).name, "x")
 
     def test_the_first_such_by_name(self):
         one, other = Table(["z", "c", "b", "a"], []), Table(["c", "y", "b"], [])
-        self.assertEqual(self.refused(Twice, crossed, one, other).name, "b")
-        self.assertEqual(self.refused(Twice, crossed, other, one).name, "b")
-        self.assertEqual(self.refused(Twice, crossed, Table(["b", "aa"], []), Table(["aa", "b"], [])).name, "aa")
+        self.assertEqual(refused(self, Twice, crossed, one, other).name, "b")
+        self.assertEqual(refused(self, Twice, crossed, other, one).name, "b")
+        self.assertEqual(refused(self, Twice, crossed, Table(["b", "aa"], []), Table(["aa", "b"], [])).name, "aa")
 
     def test_twenty_four_rows_and_more(self):
         for first, second in ((24, 1), (1, 24), (4, 6), (8, 3), (25, 0), (0, 30)):
             told = crossed(long_table(["x"], first), long_table(["y"], second))
             self.assertEqual(len(told.rows()), first * second)
         for first, second in ((25, 1), (1, 25), (5, 5), (24, 24), (13, 2)):
-            self.refused(TooMany, crossed, long_table(["x"], first), long_table(["y"], second))
+            refused(self, TooMany, crossed, long_table(["x"], first), long_table(["y"], second))
 
     def test_rows_that_are_never_there_count_too(self):
-        self.refused(TooMany, crossed, Table(["x"], [([1], NO)] * 5), Table(["y"], [([1], NO)] * 5))
+        refused(self, TooMany, crossed, Table(["x"], [([1], NO)] * 5), Table(["y"], [([1], NO)] * 5))
 
     def test_twice_ahead_of_too_many(self):
-        self.refused(Twice, crossed, long_table(["x"], 24), long_table(["x"], 24))
+        refused(self, Twice, crossed, long_table(["x"], 24), long_table(["x"], 24))
 
     def test_sixteen_columns(self):
         one = Table(["a" + chr(97 + place) for place in range(8)], [(["a"] * 8, YES)] * 4)
@@ -253,8 +247,8 @@ class JoinedTest(PairTest):
             told = joined(long_table(["x", "y"], first), long_table(["y", "z"], second))
             self.assertEqual(len(told.rows()), first * second)
         for first, second in ((25, 1), (1, 25), (5, 5), (24, 24)):
-            self.refused(TooMany, joined, long_table(["x", "y"], first), long_table(["y", "z"], second))
-            self.refused(TooMany, joined, long_table(["x"], first), long_table(["x"], second))
+            refused(self, TooMany, joined, long_table(["x", "y"], first), long_table(["y", "z"], second))
+            refused(self, TooMany, joined, long_table(["x"], first), long_table(["x"], second))
 
     def test_as_long_and_as_deep_as_may_be(self):
         columns = ["c" + chr(97 + place) for place in range(8)]
@@ -284,8 +278,8 @@ class LikeTest(PairTest):
         for ask in (together, less):
             for columns, others in ((["x"], ["y"]), (["x"], []), ([], ["x"]), (["x"], ["x", "y"]), (["y", "x"], ["x"]),
                                     (["x", "y"], ["x", "z"])):
-                self.refused(Unlike, ask, Table(columns, []), Table(others, []))
-                self.refused(Unlike, ask, long_table(columns, 2), long_table(others, 2))
+                refused(self, Unlike, ask, Table(columns, []), Table(others, []))
+                refused(self, Unlike, ask, long_table(columns, 2), long_table(others, 2))
 
     def test_in_whatever_order(self):
         for ask in (together, less):
@@ -342,10 +336,10 @@ class TogetherTest(PairTest):
         for first, second in ((12, 12), (24, 0), (0, 24), (1, 23)):
             self.assertEqual(len(together(long_table(["x"], first), long_table(["x"], second)).rows()), 24)
         for first, second in ((12, 13), (24, 1), (1, 24), (25, 0), (0, 25)):
-            self.refused(TooMany, together, long_table(["x"], first), long_table(["x"], second))
+            refused(self, TooMany, together, long_table(["x"], first), long_table(["x"], second))
 
     def test_unlike_ahead_of_too_many(self):
-        self.refused(Unlike, together, long_table(["x"], 20), long_table(["y"], 20))
+        refused(self, Unlike, together, long_table(["x"], 20), long_table(["y"], 20))
 
     def test_just_as_the_words_say(self):
         there = 0

@@ -6,13 +6,13 @@ import unittest
 
 from maybetables.choosing import chosen
 from maybetables.conds import AllOf, OneOf, Opposite, Same, Truth
-from maybetables.errors import MaybeError, TooMany, Unlike
+from maybetables.errors import TooMany, Unlike
 from maybetables.fillings import bound, kinds
-from maybetables.looking import is_paper
 from maybetables.pairing import less, together
 from maybetables.sureness import maybe, sure, sure_rows
 from maybetables.tables import Table
-from tests.samples import (HIGH, drawn_tables, filled_by_words, layered, paper_by_words, splits_deep, table_shape)
+from tests.samples import (HIGH, drawn_tables, filled_by_words, filling_right, layered, paper_by_words, paper_right,
+                           refused, table_shape)
 
 YES, NO = Truth(True), Truth(False)
 EITHER = OneOf([Same("a", 1), Opposite(Same("a", 1))])
@@ -43,16 +43,9 @@ def wide_tables():
 
 
 class RowTest(unittest.TestCase):
-    def filling_right(self, table, filling):
-        self.assertIs(type(filling), dict)
-        self.assertEqual(sorted(filling), table.gaps())
-        for value in filling.values():
-            self.assertIs(type(value), int)
+    def keeps_whole(self, table, filling):
+        filling_right(self, filling, table.gaps())
         self.assertIs(table.whole().truth(filling), True)
-
-    def paper_right(self, cond, paper):
-        self.assertIs(is_paper(cond, paper), True)
-        self.assertLessEqual(splits_deep(paper), 100)
 
     def is_sure(self, table, row):
         """Whether the row is told to be sure, when what is told with it is looked through."""
@@ -60,10 +53,10 @@ class RowTest(unittest.TestCase):
         self.assertIs(type(told), tuple)
         self.assertEqual(len(told), 2)
         if told[0] == "sure":
-            self.paper_right(OneOf([Opposite(table.whole()), brought(table, row)]), told[1])
+            paper_right(self, OneOf([Opposite(table.whole()), brought(table, row)]), told[1])
             return True
         self.assertEqual(told[0], "lacks")
-        self.filling_right(table, told[1])
+        self.keeps_whole(table, told[1])
         self.assertNotIn(row, filled_by_words(table, told[1]))
         return False
 
@@ -73,10 +66,10 @@ class RowTest(unittest.TestCase):
         self.assertIs(type(told), tuple)
         self.assertEqual(len(told), 2)
         if told[0] == "never":
-            self.paper_right(Opposite(AllOf([table.whole(), brought(table, row)])), told[1])
+            paper_right(self, Opposite(AllOf([table.whole(), brought(table, row)])), told[1])
             return False
         self.assertEqual(told[0], "may")
-        self.filling_right(table, told[1])
+        self.keeps_whole(table, told[1])
         self.assertIn(row, filled_by_words(table, told[1]))
         return True
 
@@ -92,12 +85,6 @@ class RowTest(unittest.TestCase):
         told = (self.is_sure(table, row), self.may_be(table, row))
         self.assertEqual(told, (all(row in rows for rows in lists), any(row in rows for rows in lists)))
         return told
-
-    def refused(self, error, ask, *handed):
-        with self.assertRaises(error) as caught:
-            ask(*handed)
-        self.assertIsInstance(caught.exception, MaybeError)
-        self.assertIs(type(caught.exception), error)
 
 
 class SureTest(RowTest):
@@ -176,16 +163,16 @@ class SureTest(RowTest):
             for columns in ([], ["x"], ["x", "y"]):
                 for length in range(4):
                     if length != len(columns):
-                        self.refused(Unlike, ask, Table(columns, []), tuple(range(length)))
-                        self.refused(Unlike, ask, Table(columns, [], NO), tuple(range(length)))
+                        refused(self, Unlike, ask, Table(columns, []), tuple(range(length)))
+                        refused(self, Unlike, ask, Table(columns, [], NO), tuple(range(length)))
 
     def test_too_many(self):
         for ask in (sure, maybe):
             table = Table(["x"], [([gap], YES) for gap in "abcdef"])
-            self.refused(TooMany, ask, table, (0,))
+            refused(self, TooMany, ask, table, (0,))
             table = Table(["x"], [([gap], YES) for gap in "abcd"] + [([value], YES) for value in range(4)])
-            self.refused(TooMany, ask, table, (0,))
-            self.refused(TooMany, ask, Table(["x"], [(["a"], YES)], OneOf([Same("b", value) for value in range(31)])),
+            refused(self, TooMany, ask, table, (0,))
+            refused(self, TooMany, ask, Table(["x"], [(["a"], YES)], OneOf([Same("b", value) for value in range(31)])),
                          (0,))
 
     def test_the_row_has_its_part_in_the_bound(self):
@@ -194,8 +181,8 @@ class SureTest(RowTest):
                       Table(["x"], [], AllOf([Same("a", 0), Same("b", 1), Same("c", 2), Same("d", "d")]))):
             for ask in (sure, maybe):
                 ask(table, (2,))
-                self.refused(TooMany, ask, table, (3,))
-                self.refused(TooMany, ask, table, (-1,))
+                refused(self, TooMany, ask, table, (3,))
+                refused(self, TooMany, ask, table, (-1,))
 
     def test_a_value_that_stands_twice_in_the_row_counts_once(self):
         table = Table(["x", "y", "z"], [(["a", "b", "c"], Same("d", 0))])
@@ -203,17 +190,17 @@ class SureTest(RowTest):
         for ask in (sure, maybe):
             ask(table, (1, 2, 1))
             ask(table, (0, 1, 2))
-            self.refused(TooMany, ask, table, (1, 2, 3))
+            refused(self, TooMany, ask, table, (1, 2, 3))
 
     def test_unlike_ahead_of_too_many(self):
         table = Table(["x"], [([gap], YES) for gap in "abcdefg"])
         for ask in (sure, maybe):
-            self.refused(Unlike, ask, table, ())
-            self.refused(Unlike, ask, table, (1, 2))
+            refused(self, Unlike, ask, table, ())
+            refused(self, Unlike, ask, table, (1, 2))
 
     def test_too_many_where_the_whole_never_holds(self):
         for ask in (sure, maybe):
-            self.refused(TooMany, ask, Table(["x"], [([gap], NO) for gap in "abcdefg"], NO), (1,))
+            refused(self, TooMany, ask, Table(["x"], [([gap], NO) for gap in "abcdefg"], NO), (1,))
 
     def test_as_wide_as_may_be(self):
         for table in wide_tables():
@@ -327,9 +314,9 @@ class SureRowsTest(RowTest):
         self.assertEqual((bound(4, 3), bound(4, 4)), (840, 1680))
         rows = [([gap], YES) for gap in "abcd"]
         self.assertEqual(sure_rows(Table(["x"], rows + [([value], YES) for value in range(3)])), [(0,), (1,), (2,)])
-        self.refused(TooMany, sure_rows, Table(["x"], rows + [([value], YES) for value in range(4)]))
-        self.refused(TooMany, sure_rows, Table(["x"], [([gap], YES) for gap in "abcdefg"]))
-        self.refused(TooMany, sure_rows, Table(["x"], [([gap], NO) for gap in "abcdefg"], NO))
+        refused(self, TooMany, sure_rows, Table(["x"], rows + [([value], YES) for value in range(4)]))
+        refused(self, TooMany, sure_rows, Table(["x"], [([gap], YES) for gap in "abcdefg"]))
+        refused(self, TooMany, sure_rows, Table(["x"], [([gap], NO) for gap in "abcdefg"], NO))
 
     def test_just_as_the_words_say(self):
         found = 0
