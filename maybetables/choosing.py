@@ -2,7 +2,7 @@
 
 from maybetables.conds import all_of
 from maybetables.errors import Twice
-from maybetables.tables import Table, cells_in, check_named
+from maybetables.tables import Table, cells_in, check_columns, check_named
 
 
 def chosen(table, cond):
@@ -22,16 +22,28 @@ def check_once(names):
             raise Twice(name)
 
 
+def check_narrowed(names, columns):
+    """Refuses names to which columns can't be narrowed: with NoColumn, else with Twice."""
+    check_named(names, columns)
+    check_once(names)
+
+
 def narrowed(table, names):
     """The table with these of its columns alone, in this order; NoColumn, Twice."""
     columns = table.columns()
-    check_named(names, columns)
-    check_once(names)
+    check_narrowed(names, columns)
     rows = [(cells_in(names, columns, cells), cond) for cells, cond in table.rows()]
     return Table(names, rows, table.whole())
 
 
+def columns_called(columns, names):
+    """Columns called otherwise by a dict from old names to new ones; NoColumn, Twice."""
+    check_named(sorted(names), columns)
+    renamed = [names.get(name, name) for name in columns]
+    check_columns(renamed)
+    return renamed
+
+
 def called(table, names):
     """The table with columns called otherwise by a dict from old names to new ones; NoColumn, Twice."""
-    check_named(sorted(names), table.columns())
-    return Table([names.get(name, name) for name in table.columns()], table.rows(), table.whole())
+    return Table(columns_called(table.columns(), names), table.rows(), table.whole())

@@ -52,7 +52,7 @@ def same_lists(one, other):
 
     Refuses with Unlike, TooMany.
     """
-    check_like(one, other)
+    check_like(one.columns(), other.columns())
     values = values_of_both(one, other)
     check_both(one, other, values)
     turned = narrowed(other, one.columns())

@@ -14,9 +14,9 @@ def check_many(rows):
         raise TooMany()
 
 
-def check_like(one, other):
-    """Refuses with Unlike two tables that don't have the same columns, in whatever order."""
-    if sorted(one.columns()) != sorted(other.columns()):
+def check_like(columns, others):
+    """Refuses with Unlike the columns of two tables that are not the same, in whatever order."""
+    if sorted(columns) != sorted(others):
         raise Unlike()
 
 
@@ -30,6 +30,12 @@ def crossed(one, other):
     check_columns(one.columns() + other.columns())
     # Without a column of both, two rows are joined wherever both are there.
     return joined(one, other)
+
+
+def columns_parted(columns, others):
+    """The columns of both of two tables, as they stand in the one, and the further ones of the other."""
+    shared = [name for name in columns if name in others]
+    return (shared, [name for name in others if name not in shared])
 
 
 def paired(one, other, shared, further):
@@ -47,14 +53,13 @@ def paired(one, other, shared, further):
 def joined(one, other):
     """Each row of the one with each of the other, where they are alike in the columns of both; TooMany."""
     check_many(len(one.rows()) * len(other.rows()))
-    shared = [name for name in one.columns() if name in other.columns()]
-    further = [name for name in other.columns() if name not in shared]
+    shared, further = columns_parted(one.columns(), other.columns())
     return Table(one.columns() + further, paired(one, other, shared, further), both_wholes(one, other))
 
 
 def together(one, other):
     """The rows of the one, then those of the other; Unlike, TooMany."""
-    check_like(one, other)
+    check_like(one.columns(), other.columns())
     check_many(len(one.rows()) + len(other.rows()))
     return Table(one.columns(), one.rows() + narrowed(other, one.columns()).rows(), both_wholes(one, other))
 
@@ -66,7 +71,7 @@ def found_among(cells, rows):
 
 def less(one, other):
     """The rows of the one where the other has not the same row; Unlike."""
-    check_like(one, other)
+    check_like(one.columns(), other.columns())
     others = narrowed(other, one.columns()).rows()
     rows = []
     for cells, cond in one.rows():

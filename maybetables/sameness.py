@@ -22,7 +22,7 @@ def alike_filled(one, other):
 
 def everywhere(one, other):
     """("same", paper) where two tables are filled alike at each filling, else ("parted", filling); Unlike, TooMany."""
-    check_like(one, other)
+    check_like(one.columns(), other.columns())
     gaps = gaps_of_both(one, other)
     check_bound(len(gaps), len(values_of_both(one, other)))
     said, told = looked_over(alike_filled(one, narrowed(other, one.columns())), gaps)

@@ -2,14 +2,21 @@
 
 import itertools
 import random
+import re
 
 from maybetables.conds import AllOf, OneOf, Opposite, Same, Truth
-from maybetables.errors import MaybeError
+from maybetables.errors import MaybeError, NoColumn, NoName, Twice, Unlike
 from maybetables.fillings import bound, kinds
 from maybetables.looking import is_paper
 from maybetables.tables import Table
 
 HIGH = 10 ** 60 - 1
+
+# A cell in a text, and a condition after conds_seen.
+CELL = "(?:[a-z]{1,8}|0|-?[1-9][0-9]{0,59})"
+SEEN = "(?:\x01|yes|no)"
+# What stands ahead of a condition or an ask within a text.
+AHEAD = r"(?:(?<=[( ])|\A)"
 
 
 def shape(cond):
@@ -259,6 +266,153 @@ def spoiled(chance, table):
     else:
         rows[place] = ([chance.choice(cells) for cell in rows[place][0]], rows[place][1])
     return Table(table.columns(), rows, whole)
+
+
+def cond_written(cond):
+    """The text of a condition, by the words of 33."""
+    if isinstance(cond, Truth):
+        return "yes" if cond.said else "no"
+    if isinstance(cond, Same):
+        return f"{cond.one}={cond.other}"
+    if isinstance(cond, Opposite) and isinstance(cond.part, Same):
+        return f"{cond.part.one}#{cond.part.other}"
+    if isinstance(cond, Opposite):
+        return f"not({cond_written(cond.part)})"
+    return ("all(" if isinstance(cond, AllOf) else "any(") + "; ".join(map(cond_written, cond.parts)) + ")"
+
+
+def given_way(form, text, told):
+    """A text in which each place of a form has given way to what is told, again and again."""
+    before = None
+    while before != text:
+        before, text = text, re.sub(AHEAD + form, told, text)
+    return text
+
+
+def conds_seen(text):
+    """A text in which each condition by the words of 33 but yes and no has given way to one sign: from within."""
+    text = re.sub(AHEAD + f"{CELL}[=#]{CELL}(?=[;)]|\\Z)", "\x01", text)
+    return given_way(f"(?:(?:all|any)\\((?:{SEEN}(?:; {SEEN})*)?\\)|not\\({SEEN}\\))", text, "\x01")
+
+
+def one_sign_otherwise(text, signs):
+    """Each text that is a given one with one sign left out, put in, or in another's place, or cut off."""
+    told = {text[:place] for place in range(len(text))}
+    for place in range(len(text) + 1):
+        told.add(text[:place] + text[place + 1:])
+        for sign in signs:
+            told.add(text[:place] + sign + text[place:])
+            told.add(text[:place] + sign + text[place + 1:])
+    return sorted(told)
+
+
+def ask_written(ask):
+    """The text of an ask, by the words of 35.
+
+    An ask is told here as a nested tuple: ("name", name), (word, said, part) for keep, take and call, said being a
+    condition, a list of names or a list of pairs, and (word, one, other) for cross, join, both and less.
+    """
+    if ask[0] == "name":
+        return ask[1]
+    if ask[0] == "keep":
+        said = cond_written(ask[1])
+    elif ask[0] == "take":
+        said = " ".join(ask[1])
+    elif ask[0] == "call":
+        said = ", ".join(old + " " + new for old, new in ask[1])
+    else:
+        said = ask_written(ask[1])
+    return f"{ask[0]}({said}; {ask_written(ask[2])})"
+
+
+def plain_of_one(word, said, columns, rows):
+    """What keep, take and call make of a pair, by the words of 18 to 20."""
+    names = said.gaps() if word == "keep" else list(said) if word == "take" else sorted(dict(said))
+    for name in names:
+        if name not in columns:
+            raise NoColumn(name)
+    if word == "keep":
+        return columns, [row for row in rows if said.truth(dict(zip(columns, row)))]
+    told = names if word == "take" else [dict(said).get(name, name) for name in columns]
+    again = [name for place, name in enumerate(told) if name in told[:place]]
+    if again:
+        raise Twice(again[0] if word == "take" else min(again))
+    return told, [in_order(columns, told, row) for row in rows] if word == "take" else rows
+
+
+def plain_of_two(word, one, other):
+    """What cross, join, both and less make of two pairs, by the words of 21 to 24."""
+    (columns, rows), (others, other_rows) = one, other
+    shared = sorted(set(columns) & set(others))
+    if word == "cross" and shared:
+        raise Twice(shared[0])
+    if word in ("cross", "join"):
+        further = [name for name in others if name not in columns]
+        return columns + further, [row + in_order(others, further, second) for row in rows for second in other_rows
+                                   if in_order(columns, shared, row) == in_order(others, shared, second)]
+    if set(columns) != set(others):
+        raise Unlike()
+    turned = [in_order(others, columns, row) for row in other_rows]
+    return columns, rows + turned if word == "both" else [row for row in rows if row not in turned]
+
+
+def plain_by_words(ask, lists):
+    """The pair that an ask, told as in ask_written, makes of lists by names, by the words of 35."""
+    if ask[0] == "name" and ask[1] not in lists:
+        raise NoName(ask[1])
+    if ask[0] == "name":
+        columns, rows = lists[ask[1]]
+    elif ask[0] in ("keep", "take", "call"):
+        columns, rows = plain_of_one(ask[0], ask[1], *plain_by_words(ask[2], lists))
+    else:
+        one = plain_by_words(ask[1], lists)
+        columns, rows = plain_of_two(ask[0], one, plain_by_words(ask[2], lists))
+    return list(columns), sorted(set(rows))
+
+
+def told_or_refused(ask, *handed):
+    """What is told, or the refusal's class and fields."""
+    try:
+        return ask(*handed)
+    except MaybeError as refusal:
+        return type(refusal), vars(refusal)
+
+
+def drawn_said(chance, word, columns):
+    """What stands ahead of the part in a keep, take or call, mostly such that columns fit it."""
+    names = columns + ["q"] if chance.random() < 0.05 else list(columns)
+    if word == "keep":
+        return drawn_cond(chance, names, [0, 1, -2], chance.randint(1, 5), 3) if names else Truth(True)
+    if word == "take":
+        return chance.sample(names, chance.randint(len(names) // 2, len(names))) + names[:chance.random() < 0.05]
+    olds = chance.sample(names, chance.randint(1, len(names))) if names else ["q"]
+    news = chance.sample(["x", "y", "z", "u", "v", "w", "keep", "yes"], len(olds))
+    return list(zip(olds, chance.choice([news, chance.sample(olds, len(olds))])))
+
+
+def drawn_ask(chance, lists, within, pairs=3):
+    """Some ask of lists by names, with so many asks one within another and so many of two parts at most.
+
+    It is told as in ask_written; what it makes of the lists is mostly not refused.
+    """
+    if within == 1 or chance.random() < 0.1:
+        return ("name", chance.choice(sorted(lists)) if chance.random() < 0.99 else "none")
+    if pairs and chance.random() < 0.5:
+        one = drawn_ask(chance, lists, within - 1, (pairs - 1) // 2)
+        other = drawn_ask(chance, lists, within - 1, pairs - 1 - (pairs - 1) // 2)
+        return fitted(chance, chance.choice(["cross", "join", "both", "less"]), one, other, lists)
+    part = drawn_ask(chance, lists, within - 1, pairs)
+    word = chance.choice(["keep", "keep", "take", "call"])
+    told = told_or_refused(plain_by_words, part, lists)
+    return (word, drawn_said(chance, word, told[0] if isinstance(told[0], list) else ["x"]), part)
+
+
+def fitted(chance, word, one, other, lists):
+    """An ask of two parts; where it would be refused, mostly one of the other word sorts that is not."""
+    words = [word] + chance.sample(["join", "less", "both", "cross"], 4)
+    fitting = [word for word in words
+               if isinstance(told_or_refused(plain_by_words, (word, one, other), lists)[0], list)]
+    return (fitting[0] if fitting and chance.random() < 0.95 else word, one, other)
 
 
 def refused(test, error, ask, *handed):

@@ -676,9 +676,10 @@ class PackageTest(unittest.TestCase):
                 self.assertRegex(path.name, r"^[a-z0-9_]+\.py$")
                 self.assertTrue(path.is_file())
 
-    def test_each_file_that_the_document_names_so_far(self):
+    def test_each_file_that_there_is_to_be(self):
         for stem in ("__init__", "errors", "conds", "fillings", "knowing", "looking", "simple", "tables", "choosing",
-                     "pairing", "sureness", "counting", "rules", "fixing", "sameness", "lists"):
+                     "pairing", "sureness", "counting", "rules", "fixing", "sameness", "lists", "texts", "plains",
+                     "asks", "house"):
             self.assertIn(stem + ".py", package_texts())
 
     def test_no_rule_is_broken(self):
